@@ -1,0 +1,1 @@
+"""Rows of whole numbers, parted into lots that hold nothing spare."""

@@ -1,0 +1,92 @@
+"""Rows that come to free lots, by exchanges along shortest ways."""
+
+from freelots.gauge import gauge_of
+
+
+class Stock:
+    """Some lots, each of them free in a table of its own, and with no more rows than its size.
+
+    Whether a row can come is found from the row itself, on to the rows that
+    can leave a lot for it, from these to those that can leave for them, and
+    so on. Only the shortest of all such ways are sure to leave the lots free.
+    """
+
+    def __init__(self, tables, sizes, lots):
+        self._tables = list(tables)
+        self._sizes = list(sizes)
+        self._lots = [list(lot) for lot in lots]
+        self._gauges = [gauge_of(table, lot) for table, lot in zip(tables, lots)]
+
+    def shown(self):
+        """Return the lots."""
+        return [list(lot) for lot in self._lots]
+
+    def widen(self, table, size):
+        """Put a lot without rows behind the others."""
+        self._tables.append(table)
+        self._sizes.append(size)
+        self._lots.append([])
+        self._gauges.append(gauge_of(table, []))
+
+    def settle(self, row):
+        """Let a row come that is in no lot; return the lot of the rows that stand in its way.
+
+        This one is empty if the row has come. Else it has the row in it, and
+        each lot has just as many rows of it as it can have at all.
+        """
+        came, end = self._search([row])
+        if end is None:
+            return sorted(came)
+        self._shift(came, end[0], end[1])
+        return []
+
+    def reached(self, rows):
+        """Return the lot of the rows to which a way leads from some rows, none of which can come."""
+        return sorted(self._search(rows)[0])
+
+    def _search(self, starts):
+        """Return from which row each row was reached, and the first row that can come to a lot, with this one."""
+        came = {row: None for row in starts}
+        queue = list(starts)
+        at = 0
+        while at < len(queue):
+            row = queue[at]
+            at += 1
+            for place in range(len(self._lots)):
+                leavers = self._leavers(row, place)
+                if leavers is None:
+                    return came, (row, place)
+                for other in leavers:
+                    if other not in came:
+                        came[other] = row
+                        queue.append(other)
+        return came, None
+
+    def _leavers(self, row, place):
+        """Return the rows each of which can leave a lot for a row, None if no row has to."""
+        lot = self._lots[place]
+        if row in lot:
+            return []
+        makers = self._gauges[place].makers(self._tables[place].row_at(row))
+        if makers is not None:
+            return list(makers)
+        return None if len(lot) < self._sizes[place] else lot
+
+    def _shift(self, came, row, place):
+        """Put a row to a lot, the row from which it was reached to the place that it leaves, and so on."""
+        changed = {}
+        while row is not None:
+            left = self._place_of(row)
+            if left is not None:
+                self._lots[left].remove(row)
+            self._lots[place] = sorted(self._lots[place] + [row])
+            changed[place] = True
+            row, place = came[row], left
+        for place in changed:
+            self._gauges[place] = gauge_of(self._tables[place], self._lots[place])
+
+    def _place_of(self, row):
+        for place, lot in enumerate(self._lots):
+            if row in lot:
+                return place
+        return None

@@ -1,0 +1,110 @@
+"""The names, parameters and places of the interface."""
+
+import doctest
+import importlib
+import inspect
+import unittest
+from pathlib import Path
+
+README = Path(__file__).resolve().parent.parent / "README.md"
+
+FUNCTIONS = {
+    "lots": {"parted": ["table", "count"], "is_parting": ["table", "count", "lots"],
+             "is_many": ["table", "count", "lot"], "fewest": ["table"], "placed": ["tables", "sizes"],
+             "is_placing": ["tables", "sizes", "lots"], "bound": ["tables", "sizes", "lot"]},
+}
+CLASSES = {
+    "rows": {"Rows": {"__init__": ["self", "rows", "field"], "row_at": ["self", "row"], "rank": ["self", "lot"],
+                      "is_free": ["self", "lot"], "hull": ["self", "lot"], "ring": ["self", "lot"],
+                      "text": ["self"], "parse": ["cls", "text"], "__len__": ["self"], "__eq__": ["self", "other"]}},
+    "live": {"Keeper": {"__init__": ["self", "table", "count"], "lots": ["self"], "come": ["self", "row"],
+                        "go": ["self", "row"], "more": ["self"], "less": ["self", "place"], "undo": ["self"],
+                        "again": ["self"]}},
+}
+PROPERTIES = {("rows", "Rows"): ["field", "width"], ("live", "Keeper"): ["table"]}
+
+
+def module(name):
+    return importlib.import_module(f"freelots.{name}")
+
+
+class InterfaceTest(unittest.TestCase):
+
+    def test_functions(self):
+        for place, functions in FUNCTIONS.items():
+            for name, parameters in functions.items():
+                function = getattr(module(place), name)
+                self.assertEqual(function.__module__, f"freelots.{place}")
+                self.assertEqual(list(inspect.signature(function).parameters), parameters)
+
+    def test_classes(self):
+        for place, classes in CLASSES.items():
+            for name, methods in classes.items():
+                kind = getattr(module(place), name)
+                self.assertEqual(kind.__module__, f"freelots.{place}")
+                for method, parameters in methods.items():
+                    made = vars(kind)[method]
+                    plain = getattr(made, "__func__", made)
+                    self.assertEqual(list(inspect.signature(plain).parameters), parameters)
+        self.assertIsInstance(vars(module("rows").Rows)["parse"], classmethod)
+
+    def test_properties(self):
+        for (place, name), properties in PROPERTIES.items():
+            for prop in properties:
+                self.assertIsInstance(vars(getattr(module(place), name))[prop], property)
+
+    def test_nothing_is_assigned_to_a_property(self):
+        table = module("rows").Rows([[1]])
+        for name in ("field", "width"):
+            with self.assertRaises(AttributeError):
+                setattr(table, name, 2)
+        with self.assertRaises(AttributeError):
+            module("live").Keeper(table, 1).table = table
+
+    def test_each_parameter_by_its_name(self):
+        rows, lots, live = module("rows"), module("lots"), module("live")
+        table = rows.Rows(rows=[[1], [2]], field=3)
+        self.assertEqual(table, rows.Rows([[1], [2]], 3))
+        self.assertEqual(table.row_at(row=1), (2,))
+        self.assertEqual(table.rank(lot=[0, 1]), 1)
+        self.assertFalse(table.is_free(lot=[0, 1]))
+        self.assertEqual(table.hull(lot=[0]), [0, 1])
+        self.assertEqual(table.ring(lot=[0, 1]), {0: 1, 1: 1})
+        self.assertEqual(rows.Rows.parse(text=table.text()), table)
+        self.assertEqual(lots.parted(table=table, count=1), ("many", [0, 1]))
+        self.assertTrue(lots.is_parting(table=table, count=2, lots=[[0], [1]]))
+        self.assertTrue(lots.is_many(table=table, count=1, lot=[0, 1]))
+        self.assertEqual(lots.fewest(table=table)[2], [0, 1])
+        self.assertEqual(len(lots.placed(tables=[table], sizes=[1])), 2)
+        self.assertTrue(lots.is_placing(tables=[table], sizes=[1], lots=[[1]]))
+        self.assertEqual(lots.bound(tables=[table], sizes=[1], lot=[0, 1]), 1)
+        keeper = live.Keeper(table=table, count=1)
+        self.assertEqual(keeper.come(row=1), {1: 0})
+        self.assertEqual(keeper.go(row=1), 0)
+        self.assertEqual(keeper.less(place=0), {})
+
+    def test_examples(self):
+        rows, lots, live = module("rows"), module("lots"), module("live")
+        table = rows.Rows([[1, 0], [0, 1], [1, 1], [2, 2]])
+        told = [table.rank([2, 3]), table.is_free([0, 2]), table.hull([2]), table.ring([2, 3]), table.text()]
+        self.assertEqual(told, [1, True, [2, 3], {2: 2, 3: -1}, "field 0\n1 0\n0 1\n1 1\n2 2"])
+        told = [lots.parted(table, 1)[0], lots.parted(table, 2)[0], lots.is_parting(table, 2, [[0, 2], [1, 3]]),
+                lots.is_many(table, 1, [2, 3]), lots.is_many(table, 2, [2, 3])]
+        self.assertEqual(told, ["many", "lots", True, True, False])
+        self.assertEqual(lots.fewest(rows.Rows([])), ("lots", [], []))
+        web = rows.Rows([[int(at == one) - int(at == two) for at in range(6)]
+                         for one in range(6) for two in range(one + 1, 6)])
+        seven = rows.Rows([[number // 4, number // 2 % 2, number % 2] for number in range(1, 8)], 2)
+        self.assertEqual([len(lots.fewest(web)[1]), len(lots.fewest(seven)[1])], [3, 3])
+        keeper = live.Keeper(rows.Rows([[1, 0], [2, 0], [0, 1]]), 2)
+        told = [keeper.come(0) in [{0: 0}, {0: 1}], keeper.more(), keeper.go(0) in [0, 1], keeper.lots()]
+        self.assertEqual(told, [True, 2, True, [[], [], []]])
+
+    def test_readme(self):
+        told = doctest.testfile(str(README), module_relative=False, encoding="utf-8")
+        self.assertEqual(told.failed, 0)
+        self.assertGreater(told.attempted, 5)
+
+
+if __name__ == "__main__":
+    unittest.main()

@@ -1,0 +1,152 @@
+"""Values that depend on the arguments alone, and do not hang together with them (point 1)."""
+
+import copy
+import unittest
+from random import Random
+
+from brute import small_tables
+from freelots.errors import LotError, TooMany
+from freelots.live import Keeper
+from freelots.lots import bound, fewest, is_many, is_parting, is_placing, parted, placed
+from freelots.rows import Rows
+
+
+def spoil(value):
+    """Change all lists and dicts within a value."""
+    if isinstance(value, (list, tuple)):
+        for part in value:
+            spoil(part)
+    if isinstance(value, list):
+        value.append("spoilt")
+    if isinstance(value, dict):
+        value["spoilt"] = "spoilt"
+
+
+def calls(table):
+    """Return the calls of the functions and methods that return values, with their arguments."""
+    rows = list(range(len(table)))
+    halves = [rows[::2], rows[1::2]]
+    tables, sizes = [table, table], [2, 60]
+    return [(table.rank, [rows]), (table.is_free, [rows]), (table.hull, [rows[:1]]), (table.ring, [rows]),
+            (table.text, []), (parted, [table, 1]), (parted, [table, 3]), (is_parting, [table, 2, halves]),
+            (is_many, [table, 2, rows]), (fewest, [table]), (placed, [tables, sizes]),
+            (is_placing, [tables, sizes, halves]), (bound, [tables, sizes, rows])]
+
+
+def lived(table, seed):
+    """Return what a keeper tells of some deeds."""
+    random = Random(seed)
+    keeper = Keeper(table, 2)
+    told = []
+    for _ in range(20):
+        call = random.choice((keeper.come, keeper.come, keeper.go, keeper.less))
+        try:
+            told.append(call(random.randrange(len(table) + 1)))
+        except TooMany as error:
+            told.append(error.lot)
+        except LotError as error:
+            told.append(error.__class__)
+        told.append(keeper.lots())
+        if random.random() < 0.2 and len(keeper.lots()) < 4:
+            told.append(keeper.more())
+    return told
+
+
+class PureTest(unittest.TestCase):
+
+    def test_equal_arguments_give_equal_values(self):
+        for rows, field in small_tables(41, 28):
+            one, other = Rows(rows, field), Rows([tuple(row) for row in rows], field)
+            for (call, passed), (same, others) in zip(calls(one), calls(other)):
+                told = call(*passed)
+                self.assertEqual(repr(told), repr(call(*passed)))
+                self.assertEqual(repr(told), repr(same(*others)))
+            self.assertEqual(repr(lived(one, 5)), repr(lived(other, 5)))
+
+    def test_nothing_that_is_passed_is_changed(self):
+        for rows, field in small_tables(42, 28):
+            kept = copy.deepcopy(rows)
+            table = Rows(rows, field)
+            self.assertEqual(rows, kept)
+            text = table.text()
+            for call, passed in calls(table):
+                kept = copy.deepcopy(passed)
+                call(*passed)
+                self.assertEqual(passed, kept)
+            lived(table, 6)
+            self.assertEqual(table.text(), text)
+
+    def test_what_is_passed_may_be_changed_later(self):
+        for rows, field in small_tables(43, 28):
+            rows = copy.deepcopy(rows)
+            table = Rows(rows, field)
+            same = Rows(copy.deepcopy(rows), field)
+            text = table.text()
+            for row in rows:
+                row[:] = [number + 1 for number in row] + [7]
+            rows.append([1])
+            self.assertEqual(table.text(), text)
+            self.assertEqual(table, same)
+            self.assertEqual(repr(lived(table, 7)), repr(lived(same, 7)))
+
+    def test_what_is_returned_may_be_changed(self):
+        for rows, field in small_tables(44, 28):
+            table = Rows(rows, field)
+            for call, passed in calls(table):
+                told = call(*passed)
+                kept = copy.deepcopy(told)
+                spoil(told)
+                self.assertEqual(call(*passed), kept)
+
+    def test_what_a_keeper_returns_may_be_changed(self):
+        table = Rows([[1, 0], [2, 0], [0, 1], [3, 0]])
+        keeper = Keeper(table, 2)
+        for row in (0, 1, 2):
+            spoil(keeper.come(row))
+        lots = keeper.lots()
+        spoil(keeper.lots())
+        self.assertEqual(keeper.lots(), lots)
+        told = []
+        for _ in range(2):
+            with self.assertRaises(TooMany) as caught:
+                keeper.come(3)
+            told.append(list(caught.exception.lot))
+            spoil(caught.exception.lot)
+            with self.assertRaises(TooMany) as caught:
+                keeper.less(0)
+            told.append(list(caught.exception.lot))
+            spoil(caught.exception.lot)
+            self.assertEqual(keeper.lots(), lots)
+        self.assertEqual(told[:2], told[2:])
+        keeper.more()
+        spoil(keeper.less(0))
+        after = keeper.lots()
+        keeper.undo()
+        spoil(keeper.lots())
+        keeper.again()
+        self.assertEqual(keeper.lots(), after)
+        keeper.undo()
+        keeper.undo()
+        self.assertEqual(keeper.lots(), lots)
+
+    def test_lists_in_one_answer_do_not_hang_together(self):
+        told = parted(Rows([[1]]), 3)[1]
+        told[1].append(9)
+        self.assertEqual(sum(len(lot) for lot in told), 2)
+        told = Keeper(Rows([[1]]), 3).lots()
+        told[0].append(9)
+        self.assertEqual(told, [[9], [], []])
+
+    def test_two_keepers_of_one_table(self):
+        table = Rows([[1], [2]])
+        one, other = Keeper(table, 2), Keeper(table, 2)
+        one.come(0)
+        self.assertEqual(other.lots(), [[], []])
+        other.come(1)
+        one.undo()
+        self.assertEqual(one.lots(), [[], []])
+        self.assertEqual(sorted(row for lot in other.lots() for row in lot), [1])
+
+
+if __name__ == "__main__":
+    unittest.main()
