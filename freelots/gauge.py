@@ -29,6 +29,7 @@ class Gauge:
         return len([row for row in self._held if row is not None])
 
     def _shares(self, numbers):
+        """Return the share that the row at each place has in `scale` times the row with these numbers."""
         sums = [sum([one * two for one, two in zip(numbers, column)]) for column in self._columns]
         return [share % self._prime for share in sums] if self._prime else sums
 

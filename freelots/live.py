@@ -24,7 +24,7 @@ class Keeper:
         check_count(count)
         self._table = table
         # The lots behind each deed, and which of them are the lots now.
-        self._states = [[[] for _ in range(count)]]
+        self._states = [[[] for place in range(count)]]
         self._now = 0
 
     @property

@@ -21,8 +21,10 @@ def parted(table, count):
     return "lots", stock.shown()
 
 
-def are_apart(lots):
-    """Tell whether no index is in two of some lots."""
+def are_lots(lots, count, many):
+    """Tell whether these are so many lots of so many rows, and no row is in two of them."""
+    if not is_list(lots) or len(lots) != count or not all([is_lot(lot, many) for lot in lots]):
+        return False
     seen = set()
     for lot in lots:
         for row in lot:
@@ -36,9 +38,7 @@ def is_parting(table, count, lots):
     """Tell whether a list of lists of integers is a parting of a table into some lots."""
     check_count(count)
     many = len(table)
-    if len(lots) != count or not all([is_lot(lot, many) for lot in lots]):
-        return False
-    if not are_apart(lots) or sum([len(lot) for lot in lots]) != many:
+    if not are_lots(lots, count, many) or sum([len(lot) for lot in lots]) != many:
         return False
     return all([table.is_free(lot) for lot in lots])
 
@@ -97,9 +97,9 @@ def is_placing(tables, sizes, lots):
     """Tell whether a list of lists of integers is a placing."""
     check_tables(tables)
     check_sizes(tables, sizes)
-    if len(lots) != len(tables) or not all([is_lot(lot, len(tables[0])) for lot in lots]):
+    if not are_lots(lots, len(tables), len(tables[0])):
         return False
-    if not are_apart(lots) or any([len(lot) > size for lot, size in zip(lots, sizes)]):
+    if any([len(lot) > size for lot, size in zip(lots, sizes)]):
         return False
     return all([table.is_free(lot) for table, lot in zip(tables, lots)])
 

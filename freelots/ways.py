@@ -82,10 +82,11 @@ class Stock:
             self._lots[place] = sorted(self._lots[place] + [row])
             changed[place] = True
             row, place = came[row], left
-        for place in changed:
-            self._gauges[place] = gauge_of(self._tables[place], self._lots[place])
+        for at in changed:
+            self._gauges[at] = gauge_of(self._tables[at], self._lots[at])
 
     def _place_of(self, row):
+        """Return the lot in which a row is, None if it is in none."""
         for place, lot in enumerate(self._lots):
             if row in lot:
                 return place

@@ -74,7 +74,7 @@ class TextTest(unittest.TestCase):
     def test_integers_with_a_prime(self):
         for field in FIELDS[1:]:
             self.assertEqual(Rows.parse(f"field {field}\n0 {field - 1}"), Rows([[0, field - 1]], field))
-            for word in (str(field), str(field + 1), "-1", "100", "1" * 30, "-0", str(-field)):
+            for word in (str(field), str(field + 1), "-1", "100", "1" * 30, "1" * 5000, "-0", str(-field)):
                 self.refused(2, f"field {field}\n0 {word}")
                 self.refused(3, f"field {field}\n0 0\n{word} 0")
         self.refused(2, "field 13\n013")
