@@ -1,11 +1,13 @@
 """Tests of what callers pass."""
 
-from freelots.errors import BadCount, BadLot
+from freelots.errors import BadCount, BadLot, BadPrices
 
 FIELDS = (0, 2, 3, 5, 7, 11, 13)
 MOST_ROWS = 60
 MOST_WIDTH = 12
 MOST_LOTS = 60
+MOST_PLACES = 12
+MOST_TIES = 60
 
 
 def is_whole(value):
@@ -71,3 +73,27 @@ def check_count(count):
     """Raise BadCount if this is no number of lots."""
     if not is_integer(count, 0, MOST_LOTS):
         raise BadCount(count)
+
+
+def is_tie(value, places):
+    """Tell whether a value is a pair of places, of which there are so many."""
+    return is_list(value) and len(value) == 2 and all([is_integer(place, 0, places - 1) for place in value])
+
+
+def ties_fault(ties, places):
+    """Return the index that tells why these are no ties between so many places; None if they are."""
+    if not is_list(ties):
+        return 0
+    for index, tie in enumerate(ties):
+        if not is_tie(tie, places):
+            return index
+    return MOST_TIES if len(ties) > MOST_TIES else None
+
+
+def check_prices(prices, many):
+    """Raise BadPrices if these are no prices of so many things."""
+    if not is_list(prices) or len(prices) != many:
+        raise BadPrices(0)
+    for index, price in enumerate(prices):
+        if not is_whole(price):
+            raise BadPrices(index)

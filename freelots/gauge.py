@@ -28,6 +28,14 @@ class Gauge:
         """Return the number of rows of the lot."""
         return len([row for row in self._held if row is not None])
 
+    def copied(self):
+        """Return a gauge of the same lot."""
+        other = Gauge(len(self._held), self._prime)
+        other.scale = self.scale
+        other._columns = list(self._columns)
+        other._held = list(self._held)
+        return other
+
     def _shares(self, numbers):
         """Return the share that the row at each place has in `scale` times the row with these numbers."""
         sums = [sum([one * two for one, two in zip(numbers, column)]) for column in self._columns]

@@ -3,7 +3,7 @@
 from freelots.checks import check_count, check_lot, is_integer, is_list, is_lot
 from freelots.errors import BadSizes, BadTables
 from freelots.rows import Rows
-from freelots.ways import Stock
+from freelots.ways import Stock, stock_of
 
 MOST_TABLES = 12
 MOST_SIZE = 60
@@ -12,9 +12,8 @@ MOST_SIZE = 60
 def parted(table, count):
     """Return a parting of a table into some lots, or a lot that is too many for them."""
     check_count(count)
-    size = len(table)
-    stock = Stock([table] * count, [size] * count, [[]] * count)
-    for row in range(size):
+    stock = stock_of(table, count)
+    for row in range(len(table)):
         lot = stock.settle(row)
         if len(lot) > 0:
             return "many", lot
@@ -88,8 +87,7 @@ def placed(tables, sizes):
     check_tables(tables)
     check_sizes(tables, sizes)
     stock = Stock(tables, sizes, [[]] * len(tables))
-    # A thing that cannot come now cannot come later either.
-    left = [thing for thing in range(len(tables[0])) if len(stock.settle(thing)) > 0]
+    left = stock.fill(list(range(len(tables[0]))))
     return stock.shown(), stock.reached(left)
 
 

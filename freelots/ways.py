@@ -37,15 +37,20 @@ class Stock:
         came, end = self._search([row])
         if end is None:
             return sorted(came)
-        self._shift(came, end[0], end[1])
+        self._shift(came, end)
         return []
+
+    def fill(self, rows):
+        """Let rows come, one behind another; return those that cannot come."""
+        # A row that cannot come now cannot come later either.
+        return [row for row in rows if len(self.settle(row)) > 0]
 
     def reached(self, rows):
         """Return the lot of the rows to which a way leads from some rows, none of which can come."""
         return sorted(self._search(rows)[0])
 
     def _search(self, starts):
-        """Return from which row each row was reached, and the first row that can come to a lot, with this one."""
+        """Return for which row each row can leave which place, and the first row that can come, with its place."""
         came = {row: None for row in starts}
         queue = list(starts)
         at = 0
@@ -58,7 +63,7 @@ class Stock:
                     return came, (row, place)
                 for other in leavers:
                     if other not in came:
-                        came[other] = row
+                        came[other] = (row, place)
                         queue.append(other)
         return came, None
 
@@ -72,22 +77,21 @@ class Stock:
             return list(makers)
         return None if len(lot) < self._sizes[place] else lot
 
-    def _shift(self, came, row, place):
-        """Put a row to a lot, the row from which it was reached to the place that it leaves, and so on."""
+    def _shift(self, came, end):
+        """Put a row to its place, the row for which it leaves another place to that one, and so on."""
         changed = {}
-        while row is not None:
-            left = self._place_of(row)
-            if left is not None:
-                self._lots[left].remove(row)
+        step = end
+        while step is not None:
+            row, place = step
             self._lots[place] = sorted(self._lots[place] + [row])
             changed[place] = True
-            row, place = came[row], left
+            step = came[row]
+            if step is not None:
+                self._lots[step[1]].remove(row)
         for at in changed:
             self._gauges[at] = gauge_of(self._tables[at], self._lots[at])
 
-    def _place_of(self, row):
-        """Return the lot in which a row is, None if it is in none."""
-        for place, lot in enumerate(self._lots):
-            if row in lot:
-                return place
-        return None
+
+def stock_of(table, count):
+    """Return so many lots of a table, without rows."""
+    return Stock([table] * count, [len(table)] * count, [[]] * count)

@@ -12,6 +12,13 @@ FUNCTIONS = {
     "lots": {"parted": ["table", "count"], "is_parting": ["table", "count", "lots"],
              "is_many": ["table", "count", "lot"], "fewest": ["table"], "placed": ["tables", "sizes"],
              "is_placing": ["tables", "sizes", "lots"], "bound": ["tables", "sizes", "lot"]},
+    "webs": {"web_rows": ["places", "ties"], "woods": ["places", "ties"]},
+    "bases": {"apart": ["table", "count"], "most_apart": ["table"], "exchanges": ["table", "one", "other"],
+              "partners": ["table", "one", "other"]},
+    "prices": {"dearest": ["table", "count", "prices"], "cheapest": ["table", "count", "prices"],
+               "price_paper": ["table", "count", "prices"],
+               "is_price_paper": ["table", "count", "prices", "lots", "paper"]},
+    "many": {"parted_many": ["table", "times", "count"], "fewest_many": ["table", "times"]},
 }
 CLASSES = {
     "rows": {"Rows": {"__init__": ["self", "rows", "field"], "row_at": ["self", "row"], "rank": ["self", "lot"],
@@ -83,6 +90,25 @@ class InterfaceTest(unittest.TestCase):
         self.assertEqual(keeper.go(row=1), 0)
         self.assertEqual(keeper.less(place=0), {})
 
+    def test_each_parameter_of_webs_and_bases_by_its_name(self):
+        webs, bases, table = module("webs"), module("bases"), module("rows").Rows([[1], [2]])
+        self.assertEqual(webs.web_rows(places=1, ties=[(0, 0)]), module("rows").Rows([[0]]))
+        self.assertEqual(webs.woods(places=2, ties=[(0, 1)]), ("lots", [[0]], [0]))
+        self.assertEqual(bases.apart(table=table, count=0), ("bases", []))
+        self.assertEqual(bases.most_apart(table=table), 2)
+        self.assertEqual(bases.exchanges(table=table, one=[0], other=[1]), [(0, 1)])
+        self.assertEqual(bases.partners(table=table, other=[1], one=[0]), {0: 1})
+
+    def test_each_parameter_of_prices_and_many_by_its_name(self):
+        prices, many, table = module("prices"), module("many"), module("rows").Rows([[1], [2]])
+        self.assertEqual(prices.dearest(table=table, count=1, prices=[3, 4]), (4, [[1]]))
+        self.assertEqual(prices.cheapest(table=table, count=1, prices=[3, 4]), ("bases", 3, [[0]]))
+        paper = prices.price_paper(table=table, count=1, prices=[3, 4])
+        self.assertEqual([level for level, _ in paper], [4, 3])
+        self.assertTrue(prices.is_price_paper(table=table, count=1, prices=[3, 4], lots=[[1]], paper=paper))
+        self.assertEqual(many.parted_many(table=table, times=[2, 0], count=2), ("lots", [([0], 2)]))
+        self.assertEqual(many.fewest_many(table=table, times=[2, 1]), 3)
+
     def test_examples(self):
         rows, lots, live = module("rows"), module("lots"), module("live")
         table = rows.Rows([[1, 0], [0, 1], [1, 1], [2, 2]])
@@ -96,6 +122,13 @@ class InterfaceTest(unittest.TestCase):
                          for one in range(6) for two in range(one + 1, 6)])
         seven = rows.Rows([[number // 4, number // 2 % 2, number % 2] for number in range(1, 8)], 2)
         self.assertEqual([len(lots.fewest(web)[1]), len(lots.fewest(seven)[1])], [3, 3])
+        full = [(one, two) for one in range(6) for two in range(one + 1, 6)]
+        self.assertEqual(module("webs").web_rows(6, full), web)
+        three = rows.Rows([[1, 0]] * 3 + [[0, 1]] * 3)
+        two = rows.Rows([[1, 0]] * 2 + [[0, 1]] * 2)
+        told = [module("bases").most_apart(three), module("bases").exchanges(two, [0, 2], [1, 2])]
+        self.assertEqual(told, [3, [(0, 1)]])
+        self.assertEqual(module("many").fewest_many(seven, [10 ** 20] * 7), 233333333333333333334)
         keeper = live.Keeper(rows.Rows([[1, 0], [2, 0], [0, 1]]), 2)
         told = [keeper.come(0) in [{0: 0}, {0: 1}], keeper.more(), keeper.go(0) in [0, 1], keeper.lots()]
         self.assertEqual(told, [True, 2, True, [[], [], []]])

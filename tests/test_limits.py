@@ -4,10 +4,14 @@ import unittest
 from random import Random
 
 from brute import FIELDS, big_row, is_lot, made_of_few, rank
+from freelots.bases import apart, exchanges, most_apart, partners
 from freelots.errors import TooMany
 from freelots.live import Keeper
 from freelots.lots import bound, fewest, is_many, is_parting, is_placing, parted, placed
+from freelots.many import fewest_many, parted_many
+from freelots.prices import cheapest, dearest, is_price_paper, price_paper
 from freelots.rows import Rows
+from freelots.webs import web_rows, woods
 
 HALF = 10 ** 14
 
@@ -151,6 +155,124 @@ class LimitsTest(unittest.TestCase):
             for _ in range(60 + 2 + 24):
                 keeper.again()
             self.assertEqual(keeper.lots(), last)
+
+    def check_bases(self, rows, field, lots):
+        most = rank(rows, field)
+        self.assertTrue(all(is_lot(lot, 60) and len(lot) == most and self.free(rows, field, lot) for lot in lots))
+        together = [row for lot in lots for row in lot]
+        self.assertEqual(len(together), len(set(together)))
+
+    def check_few(self, rows, field, count, lot):
+        self.assertTrue(is_lot(lot, 60))
+        left = rank(rows, field) - rank([rows[row] for row in lot], field)
+        self.assertLess(60 - len(lot), count * left)
+
+    def test_bases(self):
+        for kind in KINDS:
+            for field in (0, 2, 13):
+                rows = kind(9)
+                table = Rows(rows, field)
+                most = most_apart(table)
+                for count in (1, most, most + 1, 60):
+                    word, told = apart(table, count)
+                    self.assertEqual(word, "bases" if count <= most else "lot")
+                    if word == "bases":
+                        self.assertEqual(len(told), count)
+                        self.check_bases(rows, field, told)
+                    else:
+                        self.check_few(rows, field, count, told)
+
+    def test_exchanges(self):
+        for kind in KINDS:
+            for field in (0, 11):
+                rows = kind(10)
+                table = Rows(rows, field)
+                one, other = apart(table, 2)[1]
+                base = one
+                steps = exchanges(table, one, other)
+                self.assertEqual(len(steps), len(one))
+                for left, came in steps:
+                    base = sorted([row for row in base if row != left] + [came])
+                    self.assertTrue(self.free(rows, field, base))
+                self.assertEqual(base, other)
+                found = partners(table, one, other)
+                self.assertEqual([list(found), sorted(found.values())], [one, other])
+                for left, came in found.items():
+                    self.assertTrue(self.free(rows, field, [row for row in one if row != left] + [came]))
+
+    def test_prices(self):
+        random = Random(11)
+        for kind in KINDS:
+            for field in (0, 7):
+                rows = kind(11)
+                table = Rows(rows, field)
+                prices = [random.randrange(-10 ** 30, 10 ** 31) for _ in range(60)]
+                most = most_apart(table)
+                for count in (0, 1, most, most + 1, 60):
+                    price, lots = dearest(table, count, prices)
+                    self.assertTrue(all(is_lot(lot, 60) and self.free(rows, field, lot) for lot in lots))
+                    self.assertEqual(price, sum(prices[row] for lot in lots for row in lot))
+                    paper = price_paper(table, count, prices)
+                    self.assertIs(is_price_paper(table, count, prices, lots, paper), True)
+                    told = cheapest(table, count, prices)
+                    if count <= most:
+                        self.check_bases(rows, field, told[2])
+                        self.assertEqual(told[1], sum(prices[row] for lot in told[2] for row in lot))
+                    else:
+                        self.check_few(rows, field, count, told[1])
+
+    def test_prices_of_31_figures_that_all_stand_in_lots(self):
+        rows = plain(12)
+        prices = [10 ** 30 + 7 ** row % 10 ** 30 for row in range(60)]
+        table = Rows(rows)
+        self.assertEqual(dearest(table, 5, prices)[0], sum(prices))
+        self.assertEqual(cheapest(table, 5, prices)[1], sum(prices))
+        self.assertEqual(dearest(table, 1, prices)[0], sum(sorted(prices)[-12:]))
+        self.assertEqual(cheapest(table, 1, prices)[1], sum(sorted(prices)[:12]))
+
+    def test_webs(self):
+        random = Random(13)
+        ties = [tuple(random.sample(range(12), 2)) for _ in range(60)]
+        rows = [list(web_rows(12, ties).row_at(row)) for row in range(60)]
+        word, lots, lot = woods(12, ties)
+        self.assertEqual(word, "lots")
+        self.check_parting(rows, 0, lots)
+        self.check_many(rows, 0, len(lots) - 1, lot)
+
+    def test_many(self):
+        random = Random(14)
+        for base in (1, 2, 3, 5, 7, 10):
+            for field in (0, 3, 13):
+                rows = made_of_few(random, 10, 12, base, HALF)
+                if base == 10:
+                    rows = [big_row(random, 12) for _ in range(10)]
+                table = Rows(rows, field)
+                times = [0 if rank([row], field) == 0 else random.randrange(10 ** 28, 10 ** 29 + 1) for row in rows]
+                self.check_times(rows, field, times, fewest_many(table, times))
+                times = [number // 9 for number in times]
+                self.check_times(rows, field, times, fewest_many(table, times))
+
+    def check_times(self, rows, field, times, least):
+        table = Rows(rows, field)
+        if least <= 10 ** 29:
+            word, pairs = parted_many(table, times, least)
+            self.assertEqual(word, "lots")
+            self.assertLessEqual(len(pairs), 22)
+            self.assertTrue(all(self.free(rows, field, lot) for lot, _ in pairs))
+            self.assertLessEqual(sum(number for _, number in pairs), least)
+            for row in range(10):
+                self.assertEqual(sum(number for lot, number in pairs if row in lot), times[row])
+        count = min(least - 1, 10 ** 29)
+        word, lot = parted_many(table, times, count)
+        self.assertEqual(word, "lot")
+        self.assertGreater(sum(times[row] for row in lot), count * rank([rows[row] for row in lot], field))
+
+    def test_many_rows_that_all_come_as_often_as_can_be(self):
+        table = Rows(plain(15)[:10])
+        self.assertEqual(fewest_many(table, [10 ** 29] * 10), 10 ** 29)
+        self.assertEqual(parted_many(table, [10 ** 29] * 10, 10 ** 29), ("lots", [(list(range(10)), 10 ** 29)]))
+        self.assertEqual(fewest_many(Rows(crowded(15)[:10]), [10 ** 29] * 10), 2 * 10 ** 29)
+        self.assertEqual(fewest_many(Rows([[1]] * 10), [10 ** 29] * 10), 10 ** 30)
 
     def test_sixty_lots(self):
         rows = layered(8)

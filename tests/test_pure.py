@@ -5,10 +5,14 @@ import unittest
 from random import Random
 
 from brute import small_tables
-from freelots.errors import LotError, TooMany
+from freelots.bases import apart, exchanges, most_apart, partners
+from freelots.errors import LotError, NotBase, TooMany
 from freelots.live import Keeper
 from freelots.lots import bound, fewest, is_many, is_parting, is_placing, parted, placed
+from freelots.many import fewest_many, parted_many
+from freelots.prices import cheapest, dearest, is_price_paper, price_paper
 from freelots.rows import Rows
+from freelots.webs import web_rows, woods
 
 
 def spoil(value):
@@ -22,6 +26,37 @@ def spoil(value):
         value["spoilt"] = "spoilt"
 
 
+def web_text(places, ties):
+    return web_rows(places, ties).text()
+
+
+def base_of(table, rows):
+    """Return the base that comes if rows are taken in this order, each if it is free with those taken."""
+    base = []
+    for row in rows:
+        if table.is_free(sorted([*base, row])):
+            base.append(row)
+    return sorted(base)
+
+
+def more_calls(table):
+    """Return the calls of functions that rest on bases, prices and times."""
+    many = len(table)
+    rows = list(range(many))
+    bases = [base_of(table, rows), base_of(table, rows[::-1])]
+    prices = [row * 7 % 5 - 1 for row in rows]
+    times = [row % 3 for row in rows]
+    ties = [[row % 4, row // 2] for row in rows]
+    told = [(apart, [table, 1]), (apart, [table, 3]), (most_apart, [table]), (exchanges, [table, *bases]),
+            (partners, [table, *bases]), (web_text, [8, ties]), (woods, [8, ties]), (fewest_many, [table, times]),
+            (parted_many, [table, times, 1]), (parted_many, [table, times, 10 ** 29])]
+    for count in (0, 1, 2):
+        passed = [table, count, prices]
+        lots, paper = dearest(*passed)[1], price_paper(*passed)
+        told += [(dearest, passed), (cheapest, passed), (price_paper, passed), (is_price_paper, [*passed, lots, paper])]
+    return told
+
+
 def calls(table):
     """Return the calls of the functions and methods that return values, with their arguments."""
     rows = list(range(len(table)))
@@ -30,7 +65,7 @@ def calls(table):
     return [(table.rank, [rows]), (table.is_free, [rows]), (table.hull, [rows[:1]]), (table.ring, [rows]),
             (table.text, []), (parted, [table, 1]), (parted, [table, 3]), (is_parting, [table, 2, halves]),
             (is_many, [table, 2, rows]), (fewest, [table]), (placed, [tables, sizes]),
-            (is_placing, [tables, sizes, halves]), (bound, [tables, sizes, rows])]
+            (is_placing, [tables, sizes, halves]), (bound, [tables, sizes, rows]), *more_calls(table)]
 
 
 def lived(table, seed):
@@ -136,6 +171,19 @@ class PureTest(unittest.TestCase):
         told = Keeper(Rows([[1]]), 3).lots()
         told[0].append(9)
         self.assertEqual(told, [[9], [], []])
+        table = Rows([[0]])
+        for told in (apart(table, 3)[1], dearest(table, 3, [1])[1], cheapest(table, 3, [1])[2]):
+            told[0].append(9)
+            self.assertEqual(told, [[9], [], []])
+
+    def test_a_base_that_is_refused_is_not_changed(self):
+        for lot in ([1, 0], [0], (2, 3)):
+            kept = copy.deepcopy(lot)
+            for call in (exchanges, partners):
+                with self.assertRaises(NotBase) as caught:
+                    call(Rows([[1, 0], [0, 1], [1, 1], [2, 2]]), [0, 1], lot)
+                self.assertEqual(caught.exception.lot, kept)
+                self.assertEqual(lot, kept)
 
     def test_two_keepers_of_one_table(self):
         table = Rows([[1], [2]])
