@@ -1,6 +1,6 @@
 """Tests of what callers pass."""
 
-from freelots.errors import BadCount, BadLot, BadPrices
+from freelots.errors import BadCount, BadLot, BadPrices, UnlikeRows
 
 FIELDS = (0, 2, 3, 5, 7, 11, 13)
 MOST_ROWS = 60
@@ -97,3 +97,9 @@ def check_prices(prices, many):
     for index, price in enumerate(prices):
         if not is_whole(price):
             raise BadPrices(index)
+
+
+def check_alike(one, other):
+    """Raise UnlikeRows if two tables do not have as many rows."""
+    if len(one) != len(other):
+        raise UnlikeRows()

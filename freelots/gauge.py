@@ -2,11 +2,15 @@
 
 
 def inverse(number, prime):
-    """Return the integer below a small prime by which the number becomes 1."""
-    for guess in range(1, prime):
-        if number * guess % prime == 1:
-            return guess
-    return 0
+    """Return the integer below a prime by which a number that it does not divide becomes 1."""
+    high, low = prime, number % prime
+    # Both are `number` times their factors, as the prime counts.
+    above, below = 0, 1
+    while low > 0:
+        times = high // low
+        high, low = low, high - times * low
+        above, below = below, above - times * below
+    return above % prime
 
 
 class Gauge:
@@ -80,6 +84,10 @@ class Gauge:
         if self._lacking(shares) is not None:
             return None
         return {row: share for row, share in zip(self._held, shares) if share != 0}
+
+    def rest(self, numbers):
+        """Return the shares of the unit rows in `scale` times a row: zeros alone just if the lot makes it."""
+        return [share for row, share in zip(self._held, self._shares(numbers)) if row is None]
 
 
 def gauge_of(table, lot):

@@ -49,6 +49,10 @@ class Stock:
         """Return the lot of the rows to which a way leads from some rows, none of which can come."""
         return sorted(self._search(rows)[0])
 
+    def stuck(self, rows):
+        """Return those of some rows of which not one more can come, be they in lots or not."""
+        return [row for row in rows if self._search([row])[1] is None]
+
     def _search(self, starts):
         """Return for which row each row can leave which place, and the first row that can come, with its place."""
         came = {row: None for row in starts}

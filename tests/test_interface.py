@@ -19,6 +19,11 @@ FUNCTIONS = {
                "price_paper": ["table", "count", "prices"],
                "is_price_paper": ["table", "count", "prices", "lots", "paper"]},
     "many": {"parted_many": ["table", "times", "count"], "fewest_many": ["table", "times"]},
+    "thick": {"thickness": ["table"], "thickest": ["table"], "layers": ["table"], "layer_papers": ["table"],
+              "are_layers": ["table", "lots", "papers"]},
+    "common": {"common": ["one", "other"], "chosen": ["table", "classes"]},
+    "fields": {"spoilt": ["table", "prime"]},
+    "games": {"is_hold": ["table", "goal", "kept", "free", "one", "two"]},
 }
 CLASSES = {
     "rows": {"Rows": {"__init__": ["self", "rows", "field"], "row_at": ["self", "row"], "rank": ["self", "lot"],
@@ -27,8 +32,12 @@ CLASSES = {
     "live": {"Keeper": {"__init__": ["self", "table", "count"], "lots": ["self"], "come": ["self", "row"],
                         "go": ["self", "row"], "more": ["self"], "less": ["self", "place"], "undo": ["self"],
                         "again": ["self"]}},
+    "games": {"Game": {"__init__": ["self", "table", "goal", "first"], "kept_rows": ["self"], "cut_rows": ["self"],
+                       "free_rows": ["self"], "turn": ["self"], "winner": ["self"], "winning": ["self"],
+                       "take": ["self", "row"], "undo": ["self"], "again": ["self"], "hold": ["self"]}},
 }
-PROPERTIES = {("rows", "Rows"): ["field", "width"], ("live", "Keeper"): ["table"]}
+PROPERTIES = {("rows", "Rows"): ["field", "width"], ("live", "Keeper"): ["table"],
+              ("games", "Game"): ["table", "goal"]}
 
 
 def module(name):
@@ -67,6 +76,9 @@ class InterfaceTest(unittest.TestCase):
                 setattr(table, name, 2)
         with self.assertRaises(AttributeError):
             module("live").Keeper(table, 1).table = table
+        for name, value in (("table", table), ("goal", 0)):
+            with self.assertRaises(AttributeError):
+                setattr(module("games").Game(table, 0, "cut"), name, value)
 
     def test_each_parameter_by_its_name(self):
         rows, lots, live = module("rows"), module("lots"), module("live")
@@ -109,6 +121,23 @@ class InterfaceTest(unittest.TestCase):
         self.assertEqual(many.parted_many(table=table, times=[2, 0], count=2), ("lots", [([0], 2)]))
         self.assertEqual(many.fewest_many(table=table, times=[2, 1]), 3)
 
+    def test_each_parameter_of_thick_and_common_by_its_name(self):
+        thick, common, table = module("thick"), module("common"), module("rows").Rows([[1, 0], [2, 0], [0, 1]])
+        self.assertEqual(thick.thickness(table=table), (2, 1))
+        self.assertEqual(thick.thickest(table=table), [0, 1])
+        self.assertEqual(thick.layers(table=table), [(2, 1, [0, 1]), (1, 1, [2])])
+        papers = thick.layer_papers(table=table)
+        self.assertIs(thick.are_layers(table=table, lots=[[0, 1], [2]], papers=papers), True)
+        self.assertEqual(len(common.common(one=table, other=table)[0]), 2)
+        self.assertEqual(common.chosen(table=table, classes=[[2], [1]]), ("rows", [2, 1]))
+
+    def test_each_parameter_of_fields_and_games_by_its_name(self):
+        games, table = module("games"), module("rows").Rows([[1, 0], [2, 0], [0, 1]])
+        self.assertEqual(module("fields").spoilt(table=table, prime=2), [1])
+        game = games.Game(table=table, goal=0, first="keep")
+        self.assertIs(game.take(row=1), True)
+        self.assertIs(games.is_hold(table=table, goal=0, kept=[1], free=[2], one=[], two=[]), True)
+
     def test_examples(self):
         rows, lots, live = module("rows"), module("lots"), module("live")
         table = rows.Rows([[1, 0], [0, 1], [1, 1], [2, 2]])
@@ -129,6 +158,13 @@ class InterfaceTest(unittest.TestCase):
         told = [module("bases").most_apart(three), module("bases").exchanges(two, [0, 2], [1, 2])]
         self.assertEqual(told, [3, [(0, 1)]])
         self.assertEqual(module("many").fewest_many(seven, [10 ** 20] * 7), 233333333333333333334)
+        common = module("common")
+        told = [common.chosen(table, [[2, 3], [2]])[0], common.chosen(table, [[0], [1]]),
+                len(common.chosen(table, [[2], [3]])[1])]
+        self.assertEqual(told, ["classes", ("rows", [0, 1]), 2])
+        four = module("webs").web_rows(4, [(one, two) for one in range(4) for two in range(one + 1, 4)])
+        layers = module("thick").layers(rows.Rows([[1, 0], [2, 0], [0, 1]]))
+        self.assertEqual([module("thick").thickness(four), layers], [(2, 1), [(2, 1, [0, 1]), (1, 1, [2])]])
         keeper = live.Keeper(rows.Rows([[1, 0], [2, 0], [0, 1]]), 2)
         told = [keeper.come(0) in [{0: 0}, {0: 1}], keeper.more(), keeper.go(0) in [0, 1], keeper.lots()]
         self.assertEqual(told, [True, 2, True, [[], [], []]])

@@ -145,6 +145,25 @@ class LanguageTest(unittest.TestCase):
                 if isinstance(node, ast.Name) and node.id in ALL_BUILTINS:
                     self.assertIn(node.id, BUILTINS, path)
 
+    def test_no_variable_has_the_name_of_a_class_or_an_import(self):
+        for path, tree in self.trees.items():
+            taken = {node.name for node in tree.body if isinstance(node, ast.ClassDef)}
+            taken |= {alias.name for node in tree.body if isinstance(node, ast.ImportFrom) for alias in node.names}
+            for node in ast.walk(tree):
+                if isinstance(node, ast.arg):
+                    self.assertNotIn(node.arg, taken, path)
+                elif isinstance(node, ast.Name) and not isinstance(node.ctx, ast.Load):
+                    self.assertNotIn(node.id, taken, path)
+
+    def test_no_method_is_an_attribute(self):
+        for path, tree in self.trees.items():
+            for kind in [node for node in tree.body if isinstance(node, ast.ClassDef)]:
+                methods = [node.name for node in kind.body if isinstance(node, ast.FunctionDef)]
+                assigned = {node.attr for node in ast.walk(kind)
+                            if isinstance(node, ast.Attribute) and not isinstance(node.ctx, ast.Load)}
+                self.assertEqual(len(methods), len(set(methods)), path)
+                self.assertFalse(assigned & set(methods), path)
+
     def test_words(self):
         for path, source in self.sources.items():
             self.assertIsNone(WORDS.search(stripped(source, ast.parse(source))), path)

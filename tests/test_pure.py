@@ -6,12 +6,16 @@ from random import Random
 
 from brute import small_tables
 from freelots.bases import apart, exchanges, most_apart, partners
-from freelots.errors import LotError, NotBase, TooMany
+from freelots.common import chosen, common
+from freelots.errors import BadHand, BadPrime, LotError, NotBase, TooMany
+from freelots.fields import spoilt
+from freelots.games import Game, is_hold
 from freelots.live import Keeper
 from freelots.lots import bound, fewest, is_many, is_parting, is_placing, parted, placed
 from freelots.many import fewest_many, parted_many
 from freelots.prices import cheapest, dearest, is_price_paper, price_paper
 from freelots.rows import Rows
+from freelots.thick import are_layers, layer_papers, layers, thickest, thickness
 from freelots.webs import web_rows, woods
 
 
@@ -57,6 +61,31 @@ def more_calls(table):
     return told
 
 
+def layer_calls(table):
+    """Return the calls of functions that rest on layers; none for a table with nought rows."""
+    if table.hull([]):
+        return []
+    lots, papers = [lot for _, _, lot in layers(table)], layer_papers(table)
+    return [(thickness, [table]), (thickest, [table]), (layers, [table]), (layer_papers, [table]),
+            (are_layers, [table, lots, papers]), (are_layers, [table, lots[::-1], papers])]
+
+
+def last_calls(table):
+    """Return the calls of functions that rest on two tables, classes, primes and a goal."""
+    many = len(table)
+    rows = list(range(many))
+    other = Rows([[row % 3, 1] for row in rows], 5)
+    classes = [rows[:2], rows[1:], rows[::2]]
+    told = [(common, [table, other]), (common, [other, table]), (common, [table, table]), (chosen, [table, classes]),
+            (chosen, [table, classes * 3]), (chosen, [table, []])]
+    if table.field == 0:
+        told += [(spoilt, [table, 2]), (spoilt, [table, 997])]
+    if many > 0:
+        told += [(is_hold, [table, 0, rows[1:2], rows[2:], rows[2:4], rows[4:6]]),
+                 (is_hold, [table, 0, [], rows[1:], rows[1:2], rows[2:3]])]
+    return told
+
+
 def calls(table):
     """Return the calls of the functions and methods that return values, with their arguments."""
     rows = list(range(len(table)))
@@ -65,7 +94,8 @@ def calls(table):
     return [(table.rank, [rows]), (table.is_free, [rows]), (table.hull, [rows[:1]]), (table.ring, [rows]),
             (table.text, []), (parted, [table, 1]), (parted, [table, 3]), (is_parting, [table, 2, halves]),
             (is_many, [table, 2, rows]), (fewest, [table]), (placed, [tables, sizes]),
-            (is_placing, [tables, sizes, halves]), (bound, [tables, sizes, rows]), *more_calls(table)]
+            (is_placing, [tables, sizes, halves]), (bound, [tables, sizes, rows]), *more_calls(table),
+            *layer_calls(table), *last_calls(table)]
 
 
 def lived(table, seed):
@@ -87,6 +117,28 @@ def lived(table, seed):
     return told
 
 
+def state(game):
+    """Return all that a game tells of its position."""
+    return [game.kept_rows(), game.cut_rows(), game.free_rows(), game.turn(), game.winner(), game.winning(),
+            game.hold()]
+
+
+def played(table, seed):
+    """Return what games on a table tell of some deeds."""
+    random = Random(seed)
+    told = []
+    for goal in range(min(2, len(table))):
+        game = Game(table, goal, random.choice(("keep", "cut")))
+        for _ in range(12):
+            deed = random.choice((game.take, game.take, game.take, game.undo, game.again))
+            try:
+                told.append(deed(random.randrange(len(table))) if deed == game.take else deed())
+            except LotError as error:
+                told.append(error.__class__)
+            told.append(state(game))
+    return told
+
+
 class PureTest(unittest.TestCase):
 
     def test_equal_arguments_give_equal_values(self):
@@ -97,6 +149,7 @@ class PureTest(unittest.TestCase):
                 self.assertEqual(repr(told), repr(call(*passed)))
                 self.assertEqual(repr(told), repr(same(*others)))
             self.assertEqual(repr(lived(one, 5)), repr(lived(other, 5)))
+            self.assertEqual(repr(played(one, 5)), repr(played(other, 5)))
 
     def test_nothing_that_is_passed_is_changed(self):
         for rows, field in small_tables(42, 28):
@@ -109,6 +162,7 @@ class PureTest(unittest.TestCase):
                 call(*passed)
                 self.assertEqual(passed, kept)
             lived(table, 6)
+            played(table, 6)
             self.assertEqual(table.text(), text)
 
     def test_what_is_passed_may_be_changed_later(self):
@@ -123,6 +177,7 @@ class PureTest(unittest.TestCase):
             self.assertEqual(table.text(), text)
             self.assertEqual(table, same)
             self.assertEqual(repr(lived(table, 7)), repr(lived(same, 7)))
+            self.assertEqual(repr(played(table, 7)), repr(played(same, 7)))
 
     def test_what_is_returned_may_be_changed(self):
         for rows, field in small_tables(44, 28):
@@ -164,6 +219,28 @@ class PureTest(unittest.TestCase):
         keeper.undo()
         self.assertEqual(keeper.lots(), lots)
 
+    def test_what_a_game_returns_may_be_changed(self):
+        game = Game(Rows([[1, 0], [0, 1], [1, 1], [1, 2], [1, 3]]), 4, "keep")
+        for row in (1, 3, 2):
+            kept = state(game)
+            spoil(state(game))
+            self.assertEqual(state(game), kept)
+            game.take(row)
+        self.assertEqual(game.kept_rows(), [1, 2])
+        game.undo()
+        game.undo()
+        self.assertEqual([len(lot) for lot in game.hold()], [1, 1])
+
+    def test_objects_that_are_refused_are_not_changed(self):
+        for thing in ([2], (2, [3]), {2: 3}):
+            kept = copy.deepcopy(thing)
+            with self.assertRaises(BadPrime) as caught:
+                spoilt(Rows([[1]]), thing)
+            self.assertEqual([caught.exception.prime, thing], [kept, kept])
+            with self.assertRaises(BadHand) as caught:
+                Game(Rows([[1]]), 0, thing)
+            self.assertEqual([caught.exception.hand, thing], [kept, kept])
+
     def test_lists_in_one_answer_do_not_hang_together(self):
         told = parted(Rows([[1]]), 3)[1]
         told[1].append(9)
@@ -175,6 +252,9 @@ class PureTest(unittest.TestCase):
         for told in (apart(table, 3)[1], dearest(table, 3, [1])[1], cheapest(table, 3, [1])[2]):
             told[0].append(9)
             self.assertEqual(told, [[9], [], []])
+        for paper in layer_papers(Rows([[1, 0], [0, 1]])):
+            paper[0].append(9)
+            self.assertEqual(paper, [[0, 1, 9], [0, 1]])
 
     def test_a_base_that_is_refused_is_not_changed(self):
         for lot in ([1, 0], [0], (2, 3)):
