@@ -1,6 +1,6 @@
 """Tests of what callers pass."""
 
-from freelots.errors import BadCount, BadLot, BadPrices, UnlikeRows
+from freelots.errors import BadCount, BadLot, BadPrices, BadWeb, UnlikeRows
 
 FIELDS = (0, 2, 3, 5, 7, 11, 13)
 MOST_ROWS = 60
@@ -80,14 +80,26 @@ def is_tie(value, places):
     return is_list(value) and len(value) == 2 and all([is_integer(place, 0, places - 1) for place in value])
 
 
-def ties_fault(ties, places):
-    """Return the index that tells why these are no ties between so many places; None if they are."""
+def ties_fault(ties, places, loops):
+    """Return the index that tells why these are no ties between so many places; None if they are.
+
+    A tie from a place to itself is one only where there may be loops.
+    """
     if not is_list(ties):
         return 0
     for index, tie in enumerate(ties):
-        if not is_tie(tie, places):
+        if not is_tie(tie, places) or (tie[0] == tie[1] and not loops):
             return index
     return MOST_TIES if len(ties) > MOST_TIES else None
+
+
+def check_web(places, least, ties, loops):
+    """Raise BadWeb if this is no number of places, from the least on, or these are no ties between them."""
+    if not is_integer(places, least, MOST_PLACES):
+        raise BadWeb(-1)
+    fault = ties_fault(ties, places, loops)
+    if fault is not None:
+        raise BadWeb(fault)
 
 
 def check_prices(prices, many):

@@ -12,7 +12,7 @@ def common(one, other):
     many = len(one)
     meet = all_meets(one, other, [0] * many)[-1]
     reachable = meet.reachable()
-    return meet.lot(), [row for row in range(many) if row not in reachable]
+    return meet.common_lot(), [row for row in range(many) if row not in reachable]
 
 
 def check_classes(table, classes):

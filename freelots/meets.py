@@ -71,7 +71,7 @@ class Meet:
                 arcs.append((row, leaver, prices[leaver] - prices[row]))
         return arcs
 
-    def lot(self):
+    def common_lot(self):
         """Return the lot."""
         return list(self._lot)
 

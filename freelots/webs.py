@@ -1,7 +1,6 @@
 """Webs: ties between places, as rows of a table."""
 
-from freelots.checks import MOST_PLACES, is_integer, ties_fault
-from freelots.errors import BadWeb
+from freelots.checks import check_web
 from freelots.lots import fewest
 from freelots.rows import Rows
 
@@ -16,11 +15,7 @@ def tie_row(places, one, other):
 
 def web_rows(places, ties):
     """Return the table of a web."""
-    if not is_integer(places, 0, MOST_PLACES):
-        raise BadWeb(-1)
-    fault = ties_fault(ties, places)
-    if fault is not None:
-        raise BadWeb(fault)
+    check_web(places, 0, ties, True)
     return Rows([tie_row(places, one, other) for one, other in ties])
 
 

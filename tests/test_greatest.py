@@ -1,15 +1,20 @@
-"""The greatest inputs for layers, common lots, classes, fields and games."""
+"""The greatest inputs for layers, common lots, classes, fields, games, frames, rooted woods and dear lots."""
 
 import unittest
 from random import Random
 
 from brute import FIELDS, Ranks, big_row, is_lot, made_of_few, rank
 from freelots.common import chosen, common
+from freelots.dear import dear_common, is_split
 from freelots.fields import spoilt
+from freelots.frames import is_stiff, more_bars, overfull, sound_bars, spare_bars, stiff_parts, strength
 from freelots.games import Game, is_hold
+from freelots.rooted import cheapest_rooted, is_rooted, most_rooted, rooted, rooted_paper
 from freelots.rows import Rows
 from freelots.thick import are_layers, layer_papers, layers, thickest, thickness
+from test_frames import between, some_bars
 from test_limits import HALF, KINDS
+from test_rooted import enters, some_ways
 from test_thick import is_paper_by_words
 
 
@@ -126,6 +131,73 @@ class GreatestTest(unittest.TestCase):
         self.assertEqual(len(game.winning()) > 0, game.turn() == game.winner())
         if hold is not None:
             self.assertIs(is_hold(Rows(rows, field), 3, game.kept_rows(), game.free_rows(), *hold), True)
+
+    def test_frames(self):
+        random = Random(27)
+        halves = [(one, two) for half in (range(6), range(6, 12)) for one in half for two in half if one < two]
+        for bars in ([], [(0, 1)] * 60, halves * 2, some_bars(random, 12, 60), some_bars(random, 12, 22),
+                     [(at, (at + step) % 12) for step in range(1, 6) for at in range(12)]):
+            lot = sound_bars(12, bars)
+            self.assertIsNone(overfull(12, [bars[bar] for bar in lot]))
+            self.assertEqual(strength(12, bars), len(lot))
+            some = overfull(12, bars)
+            self.assertEqual(some is None, len(lot) == len(bars))
+            self.assertTrue(some is None or between(bars, some) > 2 * len(some) - 3)
+            spare = spare_bars(12, bars)
+            for bar in range(0, len(bars), 7):
+                self.assertEqual(bar in spare, strength(12, bars[:bar] + bars[bar + 1:]) == len(lot))
+            more = more_bars(12, bars)
+            self.assertEqual(len(more), 21 - len(lot))
+            self.assertIs(is_stiff(12, bars), more == [])
+            self.assertIs(is_stiff(12, [bars[bar] for bar in lot] + more), True)
+            parts = stiff_parts(12, bars)
+            self.assertTrue(all(sum(between([bar], some) for some in parts) == 1 for bar in bars))
+        self.assertEqual(stiff_parts(12, halves * 2), [list(range(6)), list(range(6, 12))])
+        self.assertEqual(more_bars(12, halves * 2), [(0, 6), (0, 7), (1, 6)])
+
+    def test_rooted_woods(self):
+        random = Random(28)
+        rounds = [(at, (at + step) % 12) for step in range(1, 6) for at in range(12)]
+        for ways in (rounds, some_ways(random, 12, 60), [(0, place) for place in range(1, 12)] * 5,
+                     [(at, at + 1) for at in range(11)] * 5, []):
+            most = most_rooted(12, ways, 0)
+            for count in (0, most, most + 1, 60):
+                word, told = rooted(12, ways, 0, count)
+                self.assertEqual(word, "woods" if count <= most else "places")
+                if word == "woods":
+                    self.assertTrue(all(is_rooted(12, ways, 0, wood) for wood in told))
+                    self.assertEqual(len({way for wood in told for way in wood}), 11 * count)
+                else:
+                    self.assertLess(len([way for way in ways if enters(way, told)]), count)
+            self.check_prices(ways, [random.randrange(1 - 10 ** 31, 10 ** 31) for _ in ways], most)
+            self.check_prices(ways, [random.randrange(10 ** 30, 10 ** 31) for _ in ways], most)
+            self.check_prices(ways, [10 ** 31 - 1] * len(ways), most)
+
+    def check_prices(self, ways, prices, most):
+        found, paper = cheapest_rooted(12, ways, 0, prices), rooted_paper(12, ways, 0, prices)
+        self.assertEqual([found is None, paper is None], [most == 0] * 2)
+        if found is not None:
+            self.assertIs(is_rooted(12, ways, 0, found[1]), True)
+            self.assertEqual([sum(prices[way] for way in found[1]), sum(number for _, number in paper)], [found[0]] * 2)
+            for way, price in zip(ways, prices):
+                if way[1] not in (0, way[0]):
+                    self.assertLessEqual(sum(number for some, number in paper if enters(way, some)), price)
+
+    def test_dear_common_lots(self):
+        random = Random(29)
+        for kind in KINDS:
+            for other_kind in KINDS:
+                for field in (0, 11):
+                    one, other = Rows(kind(30)[:30]), Rows(other_kind(31)[:30], field)
+                    for low, high in ((1 - 10 ** 31, 10 ** 31), (10 ** 30, 10 ** 31), (-3, 4), (7, 8)):
+                        prices = [random.randrange(low, high) for _ in range(30)]
+                        found = dear_common(one, other, prices)
+                        self.assertEqual(len(found) - 1, len(common(one, other)[0]))
+                        for size, (price, lot, split) in enumerate(found):
+                            self.assertTrue(is_lot(lot, 30) and one.is_free(lot) and other.is_free(lot))
+                            self.assertEqual([len(lot), sum(prices[row] for row in lot)], [size, price])
+                            self.assertIs(is_split(one, other, prices, lot, split), True)
+                            self.assertIs(is_split(one, other, prices, lot, split[1:]), False)
 
 
 if __name__ == "__main__":

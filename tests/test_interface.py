@@ -24,6 +24,14 @@ FUNCTIONS = {
     "common": {"common": ["one", "other"], "chosen": ["table", "classes"]},
     "fields": {"spoilt": ["table", "prime"]},
     "games": {"is_hold": ["table", "goal", "kept", "free", "one", "two"]},
+    "frames": {name: ["places", "bars"] for name in ("strength", "is_stiff", "sound_bars", "spare_bars", "overfull",
+                                                     "stiff_parts", "more_bars")},
+    "rooted": {"rooted": ["places", "ways", "root", "count"], "most_rooted": ["places", "ways", "root"],
+               "is_rooted": ["places", "ways", "root", "wood"],
+               "cheapest_rooted": ["places", "ways", "root", "prices"],
+               "rooted_paper": ["places", "ways", "root", "prices"]},
+    "dear": {"dear_common": ["one", "other", "prices"], "is_split": ["one", "other", "prices", "lot", "split"]},
+    "known": {"moments": ["count", "width"], "units": ["width", "times"], "full_web": ["places"], "seven": []},
 }
 CLASSES = {
     "rows": {"Rows": {"__init__": ["self", "rows", "field"], "row_at": ["self", "row"], "rank": ["self", "lot"],
@@ -138,36 +146,25 @@ class InterfaceTest(unittest.TestCase):
         self.assertIs(game.take(row=1), True)
         self.assertIs(games.is_hold(table=table, goal=0, kept=[1], free=[2], one=[], two=[]), True)
 
-    def test_examples(self):
-        rows, lots, live = module("rows"), module("lots"), module("live")
-        table = rows.Rows([[1, 0], [0, 1], [1, 1], [2, 2]])
-        told = [table.rank([2, 3]), table.is_free([0, 2]), table.hull([2]), table.ring([2, 3]), table.text()]
-        self.assertEqual(told, [1, True, [2, 3], {2: 2, 3: -1}, "field 0\n1 0\n0 1\n1 1\n2 2"])
-        told = [lots.parted(table, 1)[0], lots.parted(table, 2)[0], lots.is_parting(table, 2, [[0, 2], [1, 3]]),
-                lots.is_many(table, 1, [2, 3]), lots.is_many(table, 2, [2, 3])]
-        self.assertEqual(told, ["many", "lots", True, True, False])
-        self.assertEqual(lots.fewest(rows.Rows([])), ("lots", [], []))
-        web = rows.Rows([[int(at == one) - int(at == two) for at in range(6)]
-                         for one in range(6) for two in range(one + 1, 6)])
-        seven = rows.Rows([[number // 4, number // 2 % 2, number % 2] for number in range(1, 8)], 2)
-        self.assertEqual([len(lots.fewest(web)[1]), len(lots.fewest(seven)[1])], [3, 3])
-        full = [(one, two) for one in range(6) for two in range(one + 1, 6)]
-        self.assertEqual(module("webs").web_rows(6, full), web)
-        three = rows.Rows([[1, 0]] * 3 + [[0, 1]] * 3)
-        two = rows.Rows([[1, 0]] * 2 + [[0, 1]] * 2)
-        told = [module("bases").most_apart(three), module("bases").exchanges(two, [0, 2], [1, 2])]
-        self.assertEqual(told, [3, [(0, 1)]])
-        self.assertEqual(module("many").fewest_many(seven, [10 ** 20] * 7), 233333333333333333334)
-        common = module("common")
-        told = [common.chosen(table, [[2, 3], [2]])[0], common.chosen(table, [[0], [1]]),
-                len(common.chosen(table, [[2], [3]])[1])]
-        self.assertEqual(told, ["classes", ("rows", [0, 1]), 2])
-        four = module("webs").web_rows(4, [(one, two) for one in range(4) for two in range(one + 1, 4)])
-        layers = module("thick").layers(rows.Rows([[1, 0], [2, 0], [0, 1]]))
-        self.assertEqual([module("thick").thickness(four), layers], [(2, 1), [(2, 1, [0, 1]), (1, 1, [2])]])
-        keeper = live.Keeper(rows.Rows([[1, 0], [2, 0], [0, 1]]), 2)
-        told = [keeper.come(0) in [{0: 0}, {0: 1}], keeper.more(), keeper.go(0) in [0, 1], keeper.lots()]
-        self.assertEqual(told, [True, 2, True, [[], [], []]])
+    def test_each_parameter_of_frames_and_rooted_by_its_name(self):
+        frames, rooted = module("frames"), module("rooted")
+        told = [getattr(frames, name)(bars=[(0, 1), (1, 0)], places=2) for name in FUNCTIONS["frames"]]
+        self.assertEqual(told, [1, True, [0], [0, 1], [0, 1], [[0, 1]], []])
+        web = {"ways": [(0, 1), (1, 0)], "root": 1, "places": 2}
+        self.assertEqual(rooted.rooted(count=1, **web), ("woods", [[1]]))
+        self.assertEqual(rooted.most_rooted(**web), 1)
+        self.assertIs(rooted.is_rooted(wood=[1], **web), True)
+        self.assertEqual(rooted.cheapest_rooted(prices=[3, 4], **web), (4, [1]))
+        self.assertEqual(rooted.rooted_paper(prices=[3, 4], **web), [([0], 4)])
+
+    def test_each_parameter_of_dear_and_known_by_its_name(self):
+        dear, known, table = module("dear"), module("known"), module("rows").Rows([[1], [2]])
+        found = dear.dear_common(one=table, other=table, prices=[3, 4])
+        self.assertEqual([told[:2] for told in found], [(0, []), (4, [1])])
+        self.assertIs(dear.is_split(one=table, other=table, prices=[3, 4], lot=[1], split=found[1][2]), True)
+        self.assertEqual(known.moments(count=2, width=2), module("rows").Rows([[1, 0], [1, 1]]))
+        self.assertEqual(known.units(width=1, times=2), module("rows").Rows([[1], [1]]))
+        self.assertEqual(known.full_web(places=2), module("rows").Rows([[1, -1]]))
 
     def test_readme(self):
         told = doctest.testfile(str(README), module_relative=False, encoding="utf-8")

@@ -155,6 +155,30 @@ class LanguageTest(unittest.TestCase):
                 elif isinstance(node, ast.Name) and not isinstance(node.ctx, ast.Load):
                     self.assertNotIn(node.id, taken, path)
 
+    def test_no_loop_changes_what_it_goes_over(self):
+        changing = {"append", "clear", "extend", "insert", "pop", "remove", "reverse", "setdefault", "update", "add",
+                    "discard"}
+        for path, tree in self.trees.items():
+            for loop in [node for node in ast.walk(tree) if isinstance(node, ast.For)]:
+                over = {ast.unparse(node) for node in self.gone_over(loop.iter)}
+                for node in [node for part in loop.body for node in ast.walk(part)]:
+                    if isinstance(node, ast.Subscript) and not isinstance(node.ctx, ast.Load):
+                        self.assertNotIn(ast.unparse(node.value), over, (path, loop.lineno))
+                    if isinstance(node, ast.Attribute) and node.attr in changing:
+                        self.assertNotIn(ast.unparse(node.value), over, (path, loop.lineno))
+
+    def gone_over(self, node):
+        """Return the names and attributes that a loop goes over, straight or through zip, enumerate and the like."""
+        if isinstance(node, (ast.Name, ast.Attribute)):
+            return [node]
+        if isinstance(node, ast.IfExp):
+            return self.gone_over(node.body) + self.gone_over(node.orelse)
+        if isinstance(node, ast.Call) and isinstance(node.func, ast.Attribute):
+            return self.gone_over(node.func.value)
+        if isinstance(node, ast.Call) and node.func.id in ("zip", "enumerate", "reversed"):
+            return [part for passed in node.args for part in self.gone_over(passed)]
+        return []
+
     def test_no_method_is_an_attribute(self):
         for path, tree in self.trees.items():
             for kind in [node for node in tree.body if isinstance(node, ast.ClassDef)]:

@@ -7,13 +7,17 @@ from random import Random
 from brute import small_tables
 from freelots.bases import apart, exchanges, most_apart, partners
 from freelots.common import chosen, common
+from freelots.dear import dear_common, is_split
 from freelots.errors import BadHand, BadPrime, LotError, NotBase, TooMany
 from freelots.fields import spoilt
+from freelots.frames import is_stiff, more_bars, overfull, sound_bars, spare_bars, stiff_parts, strength
 from freelots.games import Game, is_hold
+from freelots.known import full_web, moments, seven, units
 from freelots.live import Keeper
 from freelots.lots import bound, fewest, is_many, is_parting, is_placing, parted, placed
 from freelots.many import fewest_many, parted_many
 from freelots.prices import cheapest, dearest, is_price_paper, price_paper
+from freelots.rooted import cheapest_rooted, is_rooted, most_rooted, rooted, rooted_paper
 from freelots.rows import Rows
 from freelots.thick import are_layers, layer_papers, layers, thickest, thickness
 from freelots.webs import web_rows, woods
@@ -78,6 +82,9 @@ def last_calls(table):
     classes = [rows[:2], rows[1:], rows[::2]]
     told = [(common, [table, other]), (common, [other, table]), (common, [table, table]), (chosen, [table, classes]),
             (chosen, [table, classes * 3]), (chosen, [table, []])]
+    prices = [row * 5 % 7 - 2 for row in rows]
+    told += [(dear_common, [table, other, prices]), (dear_common, [other, table, prices])]
+    told += [(is_split, [table, other, prices, lot, split]) for _, lot, split in dear_common(table, other, prices)]
     if table.field == 0:
         told += [(spoilt, [table, 2]), (spoilt, [table, 997])]
     if many > 0:
@@ -114,6 +121,19 @@ def lived(table, seed):
         told.append(keeper.lots())
         if random.random() < 0.2 and len(keeper.lots()) < 4:
             told.append(keeper.more())
+    return told
+
+
+def web_calls():
+    """Return the calls of functions that rest on places and pairs of them."""
+    pairs = [[0, 1], [1, 2], [2, 0], [1, 0], [0, 2], [3, 1], [2, 3]]
+    told = [(call, [4, bars]) for bars in (pairs, pairs[:2], []) for call in
+            (strength, is_stiff, sound_bars, spare_bars, overfull, stiff_parts, more_bars)]
+    for places, ways in ((4, pairs), (4, pairs[:3]), (3, pairs[:5] * 2), (1, [[0, 0]])):
+        prices = [row * 3 % 5 - 1 for row in range(len(ways))]
+        told += [(rooted, [places, ways, 0, count]) for count in (0, 1, 2, 5)]
+        told += [(most_rooted, [places, ways, 0]), (is_rooted, [places, ways, 0, [0, 1, 6]]),
+                 (cheapest_rooted, [places, ways, 0, prices]), (rooted_paper, [places, ways, 0, prices])]
     return told
 
 
@@ -164,6 +184,20 @@ class PureTest(unittest.TestCase):
             lived(table, 6)
             played(table, 6)
             self.assertEqual(table.text(), text)
+
+    def test_places_and_pairs(self):
+        for call, passed in web_calls():
+            kept, others, passed = copy.deepcopy(passed), copy.deepcopy(passed), copy.deepcopy(passed)
+            told = call(*passed)
+            self.assertEqual(passed, kept)
+            shown = repr(told)
+            spoil(told)
+            spoil(passed)
+            self.assertEqual(repr(call(*others)), shown)
+
+    def test_known_tables(self):
+        for call, passed in ((moments, [9, 4]), (units, [3, 2]), (full_web, [5]), (seven, [])):
+            self.assertEqual(call(*passed).text(), call(*passed).text())
 
     def test_what_is_passed_may_be_changed_later(self):
         for rows, field in small_tables(43, 28):
