@@ -27,8 +27,10 @@ def thickest_of(table, rows):
     """Return the thickest lot of some rows, none of which is a nought row; the empty one if there are none.
 
     No lot of them is thicker than top / bottom just if each of them can stand
-    in `bottom` of `top` free lots. Then those of which not one more could
-    stand there are the rows of all lots of just this thickness.
+    in `bottom` of `top` free lots. Else the rows that are in the way are a
+    thicker lot, one that is by more too many than all others. A lot just as
+    thick with more rows would be so by still more: so this one has all that
+    are as thick within it as soon as none is thicker.
     """
     lot = rows
     while len(lot) > 0:
@@ -36,8 +38,7 @@ def thickest_of(table, rows):
         stock = stock_of(table, top)
         left = stock.fill([row for row in rows for _ in range(bottom)])
         if len(left) == 0:
-            return stock.stuck(rows)
-        # These are too many for so many free lots, and so thicker than the lot was.
+            return lot
         lot = stock.reached(left)
     return lot
 
